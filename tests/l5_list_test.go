@@ -203,24 +203,26 @@ func TestFirstPassingIsFirst(t *testing.T) {
 }
 
 // schemasAbout returns two schemas for each way to write a number in low..high
-// as a product of five or six levels: one with levels that do not fall, and one
-// with the levels in another order.
-func schemasAbout(low, high int) [][]impl.Variable {
+// as a product of so many levels: one with levels that do not fall, and one with
+// the levels in another order.
+func schemasAbout(low, high int, lengths ...int) [][]impl.Variable {
 	var schemas [][]impl.Variable
-	for _, levels := range append(allNumbers(5, 2, 8), allNumbers(6, 2, 8)...) {
-		product := 1
-		for _, n := range levels {
-			product *= n
+	for _, n := range lengths {
+		for _, levels := range allNumbers(n, 2, 8) {
+			product := 1
+			for _, n := range levels {
+				product *= n
+			}
+			if product < low || product > high || !slices.IsSorted(levels) {
+				continue
+			}
+			var up, mixed []impl.Variable
+			for i, n := range levels {
+				up = append(up, impl.Variable{Name: string(rune('a' + i)), Levels: n})
+				mixed = slices.Insert(mixed, i/2, up[i])
+			}
+			schemas = append(schemas, up, mixed)
 		}
-		if product < low || product > high || !slices.IsSorted(levels) {
-			continue
-		}
-		var up, mixed []impl.Variable
-		for i, n := range levels {
-			up = append(up, impl.Variable{Name: string(rune('a' + i)), Levels: n})
-			mixed = slices.Insert(mixed, i/2, up[i])
-		}
-		schemas = append(schemas, up, mixed)
 	}
 	return schemas
 }
@@ -229,7 +231,7 @@ func schemasAbout(low, high int) [][]impl.Variable {
 // few less and with a few more.
 func TestCountPassingLimit(t *testing.T) {
 	met := map[int]bool{}
-	for _, s := range schemasAbout(19000, 21000) {
+	for _, s := range schemasAbout(19000, 21000, 5, 6) {
 		total, _ := impl.CombinationCount(s)
 		met[total] = true
 		zero, last := make([]int, len(s)), farRecord(s).Values
