@@ -96,6 +96,8 @@ func acceptsValuesToMend(t *testing.T, b editTable, l []impl.Edit, values []int)
 	}
 	refusesChange(t, b.s, l, []int{2, 3}, values)
 	refusesCover(t, b.s, l, []int{0}, values)
+	is, ok := impl.IsMend(b.s, l, []int{0, 1}, []int{2, 1}, values)
+	expectBool(t, fmt.Sprint("IsMend ", values), is, ok, false, true)
 	refusesDonors(t, b.s, l, []int{2, 3}, []impl.Record{r}, values)
 	cost, ok := impl.ChangeCost(b.s, []int{2, 3}, values, []int{0, 0})
 	expectInt(t, fmt.Sprint("ChangeCost ", values), cost, ok, 0, false)
@@ -181,6 +183,7 @@ func TestChapter7DoesNotReadSpareCapacity(t *testing.T) {
 		p := newRepair(b, l[:n], weights)
 		checkChanges(t, p, [][]int{values, w.values[1][:3]}, [][]int{w.vars[:0], w.vars[:1], w.vars[:2]})
 		checkDonors(t, p, data[:n], [][]int{values})
+		checkMend(t, p, w.vars[:2], values, [][]int{values[:0], values[:2], values, w.with})
 	}
 	refusesChapter7(t, w.s[:1], l, weights, w.vars[:2], values)
 	refusesChange(t, s, w.edits, weights, values)

@@ -51,14 +51,17 @@ func refusesChange(t *testing.T, s []impl.Variable, l []impl.Edit, weights, valu
 	expectChange(t, "PackingBound "+call, packed, cost, ok, nil, 0, false)
 }
 
-// refusesCover calls the functions with sets of variables.
+// refusesCover calls the functions with sets of variables, IsMend also with
+// lists that are no values, which must not hide what else is wrong.
 func refusesCover(t *testing.T, s []impl.Variable, l []impl.Edit, vars, values []int) {
 	t.Helper()
 	call := fmt.Sprintf("%.100s %.100s %.100s %.100s", fmt.Sprint(s), fmt.Sprint(l), fmt.Sprint(vars), fmt.Sprint(values))
 	is, ok := impl.IsCover(s, l, values, vars)
 	expectBool(t, "IsCover "+call, is, ok, false, false)
-	is, ok = impl.IsMend(s, l, vars, values, values)
-	expectBool(t, "IsMend "+call, is, ok, false, false)
+	for _, mended := range [][]int{values, nil, {-1}, append(slices.Clone(values), 0), slices.Repeat([]int{9}, len(values))} {
+		is, ok = impl.IsMend(s, l, vars, values, mended)
+		expectBool(t, fmt.Sprintf("IsMend %s %.100s", call, fmt.Sprint(mended)), is, ok, false, false)
+	}
 }
 
 func TestChangeCostExamples(t *testing.T) {
@@ -455,6 +458,52 @@ func TestIsMendExamples(t *testing.T) {
 	}
 }
 
+// TestIsMendOfNoValues has lists that are no values for the schema: shorter and
+// longer ones, and ones with a level that a variable does not have.
+func TestIsMendOfNoValues(t *testing.T) {
+	s, l := schemaOf("sex2", "age3"), []impl.Edit{edit(1, 4)}
+	for _, c := range []struct {
+		vars, values, mended []int
+		want                 bool
+	}{
+		{[]int{1}, []int{0, 2}, []int{0, 3}, false},
+		{[]int{1}, []int{0, 2}, []int{0}, false},
+		{[]int{1}, []int{0, 2}, []int{0, 1, 0}, false},
+		{[]int{1}, []int{0, 2}, nil, false},
+		{[]int{1}, []int{0, 2}, []int{}, false},
+		{[]int{1}, []int{0, 2}, []int{0, -1}, false},
+		{[]int{1}, []int{0, 2}, []int{0, 64}, false},
+		{[]int{0}, []int{0, 2}, []int{2, 2}, false},
+		{[]int{0}, []int{0, 2}, []int{-1, 2}, false},
+		{[]int{0, 1}, []int{0, 2}, []int{1}, false},
+		{[]int{0, 1}, []int{1, 2}, []int{1, 2, 2}, false},
+		{nil, []int{1, 2}, []int{1}, false},
+		{nil, []int{1, 2}, nil, false},
+		{[]int{1}, []int{0, 2}, []int{0, 1}, true},
+		{[]int{0}, []int{0, 2}, []int{1, 2}, true},
+		{nil, []int{1, 2}, []int{1, 2}, true},
+	} {
+		got, ok := impl.IsMend(s, l, c.vars, c.values, c.mended)
+		expectBool(t, fmt.Sprint("IsMend ", c), got, ok, c.want, true)
+	}
+}
+
+// TestIsMendOfWrongValues asks for each schema and set of variables whether
+// values, which pass or not, are mended to lists that are no values.
+func TestIsMendOfWrongValues(t *testing.T) {
+	for _, s := range fewCombinations() {
+		zero := make([]int, len(s))
+		b, lists := newEditTable(s), append(wrongValues(s), zero)
+		for _, l := range [][]impl.Edit{nil, {editOfAll(s)}, {editOfValues(zero)}} {
+			p := newRepair(b, l, ones(s))
+			for _, vars := range setsOfVariables(len(s)) {
+				checkMend(t, p, vars, zero, lists)
+				checkMend(t, p, vars, farRecord(s).Values, lists)
+			}
+		}
+	}
+}
+
 func TestCoversRefuseVariables(t *testing.T) {
 	for _, s := range fewCombinations() {
 		for _, vars := range wrongListsOfVariables(s) {
@@ -488,8 +537,6 @@ func TestChangesRefuseValues(t *testing.T) {
 				refusesCover(t, s, l, allBut(s), values)
 				is, ok := impl.IsMend(s, l, allBut(s), values, zero)
 				expectBool(t, fmt.Sprintf("IsMend %v %v of %.100s", s, l, fmt.Sprint(values)), is, ok, false, false)
-				is, ok = impl.IsMend(s, l, allBut(s), zero, values)
-				expectBool(t, fmt.Sprintf("IsMend %v %v to %.100s", s, l, fmt.Sprint(values)), is, ok, false, false)
 			}
 		}
 	}

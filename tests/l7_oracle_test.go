@@ -78,8 +78,11 @@ func (p repair) covers(values, vars []int) bool {
 	return true
 }
 
-// mends says what IsMend must say.
+// mends says what IsMend must say, also of a list that is no list of values.
 func (p repair) mends(vars, values, mended []int) bool {
+	if !recordIsGood(p.s, person(0, 0, mended...)) {
+		return false
+	}
 	for _, v := range allBut(p.s, vars...) {
 		if values[v] != mended[v] {
 			return false
