@@ -186,8 +186,10 @@ func (w planWorld) given() (impl.Geo, []impl.Variable, []impl.Table, []impl.Tabl
 	return impl.Geo{Parents: w.parents[:5]}, w.s[:3], w.first[:3], w.second[:3], w.numbers[:4]
 }
 
-func TestChapter9LeavesItsArguments(t *testing.T) {
-	for _, spoil := range []func(w *planWorld){
+// spoilsOfPlans returns changes of a world, each of which but the first one makes
+// an argument wrong.
+func spoilsOfPlans() []func(w *planWorld) {
+	return []func(w *planWorld){
 		func(w *planWorld) {},
 		func(w *planWorld) { w.parents[2] = 2 },
 		func(w *planWorld) { w.s[1].Name = "zz" },
@@ -200,7 +202,11 @@ func TestChapter9LeavesItsArguments(t *testing.T) {
 		func(w *planWorld) { w.second[1].Level = 3 },
 		func(w *planWorld) { w.second[0].Sum = 3 },
 		func(w *planWorld) { w.numbers[2] = 1000001 },
-	} {
+	}
+}
+
+func TestChapter9LeavesItsArguments(t *testing.T) {
+	for _, spoil := range spoilsOfPlans() {
 		w := newPlanWorld()
 		spoil(&w)
 		before := fmt.Sprint(w)
